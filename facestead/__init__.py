@@ -1,0 +1,1 @@
+"""Facestead: what may stand in for what a program shows."""
