@@ -210,12 +210,97 @@ class Language(unittest.TestCase):
                 self.assertIn(node, fit, where)
 
     def test_errors(self):
+        own = [node.name for where, node in self.nodes(ast.ClassDef)]
         for where, node in self.nodes(ast.Raise):
             self.assertIsInstance(node.exc, ast.Call, where)
         for where, node in self.nodes(ast.ExceptHandler):
-            self.assertIsInstance(node.type, (ast.Name, ast.Tuple), where)
-            for part in ast.walk(node.type):
-                self.assertNotIn(getattr(part, "id", ""), ["Exception", "TypeError"], where)
+            self.assertIsInstance(node.type, ast.Name, where)
+            self.assertIn(node.type.id, own + ["KeyError", "ZeroDivisionError", "StopIteration"], where)
+
+    def test_tops_are_only_read(self):
+        for file, tree in self.trees.items():
+            kept = [node for node in tree.body
+                    if isinstance(node, ast.Assign) and isinstance(node.value, (ast.List, ast.Dict))]
+            names = [node.targets[0].id for node in kept]
+            for node in kept:
+                inner = list(ast.walk(node.value))[1:]
+                self.assertEqual([part for part in inner if isinstance(part, (ast.List, ast.Dict))], [], file)
+            fit = []
+            for node in ast.walk(tree):
+                if isinstance(node, ast.Subscript) and isinstance(node.ctx, ast.Load):
+                    fit.append(node.value)
+                elif isinstance(node, ast.Attribute) and node.attr in ["get", "items", "keys", "values", "index"]:
+                    fit.append(node.value)
+                elif isinstance(node, ast.Compare):
+                    fit += node.comparators
+                elif isinstance(node, (ast.For, ast.comprehension)):
+                    fit.append(node.iter)
+                elif isinstance(node, ast.Call) and isinstance(node.func, ast.Name):
+                    fit += node.args if node.func.id in ["len", "list", "dict", "sorted", "tuple"] else []
+            for node in ast.walk(tree):
+                if isinstance(node, ast.Name) and isinstance(node.ctx, ast.Load) and node.id in names:
+                    self.assertIn(node, fit, "%s:%s" % (file, node.lineno))
+
+    def test_annotations_and_keywords(self):
+        keywords = {"sorted": ["key", "reverse"], "min": ["key", "default"], "max": ["key", "default"],
+                    "sum": ["start"], "enumerate": ["start"], "zip": ["strict"]}
+        for where, node in self.nodes(ast.FunctionDef):
+            self.assertIs(node.returns, None, where)
+        for where, node in self.nodes(ast.arg):
+            self.assertIs(node.annotation, None, where)
+        for where, node in self.nodes(ast.Call):
+            for keyword in node.keywords:
+                self.assertIn(keyword.arg, keywords.get(getattr(node.func, "id", ""), []), where)
+
+    def test_walked_on_the_spot(self):
+        fit = []
+        for where, node in self.nodes(ast.For, ast.comprehension):
+            fit.append(node.iter)
+        for where, node in self.nodes(ast.Call):
+            if isinstance(node.func, ast.Name) and node.func.id in [
+                    "list", "tuple", "dict", "sorted", "sum", "any", "all", "enumerate", "zip", "min", "max"]:
+                fit += node.args[:1]
+            if isinstance(node.func, ast.Attribute) and node.func.attr == "join":
+                fit += node.args
+        for where, node in self.nodes(ast.Call):
+            name = getattr(node.func, "id", getattr(node.func, "attr", ""))
+            if name in ["zip", "enumerate", "reversed", "range", "items", "keys", "values"]:
+                self.assertIn(node, fit, where)
+
+    def test_what_a_loop_walks_is_not_changed_in_it(self):
+        changes = "append clear extend insert pop remove reverse setdefault update".split()
+        for where, loop in self.nodes(ast.For):
+            walked = {part.id for part in ast.walk(loop.iter) if isinstance(part, ast.Name)}
+            if isinstance(loop.iter, ast.Call) and getattr(loop.iter.func, "id", "") in ["list", "range", "sorted"]:
+                continue
+            for node in ast.walk(loop):
+                if isinstance(node, ast.Call) and isinstance(node.func, ast.Attribute) and node.func.attr in changes:
+                    self.assertNotIn(getattr(node.func.value, "id", ""), walked, where)
+                if isinstance(node, ast.Subscript) and isinstance(node.ctx, ast.Store):
+                    self.assertNotIn(getattr(node.value, "id", ""), walked, where)
+
+    def test_classes_are_not_handed_on(self):
+        own = [node.name for where, node in self.nodes(ast.ClassDef)]
+        fit = []
+        for where, node in self.nodes(ast.Call):
+            fit.append(node.func)
+            if getattr(node.func, "id", "") == "isinstance":
+                fit += list(ast.walk(node.args[1]))
+        for where, node in self.nodes(ast.ClassDef):
+            fit += node.bases
+        for where, node in self.nodes(ast.ExceptHandler):
+            fit.append(node.type)
+        for where, node in self.nodes(ast.Attribute):
+            fit += [node.value] if node.attr == "__init__" else []
+        for where, node in self.nodes(ast.Name):
+            if node.id in own:
+                self.assertIn(node, fit, where)
+
+    def test_numbers_and_escapes(self):
+        for where, node in self.nodes(ast.Pow):
+            self.fail(where)
+        for name in package_files():
+            self.assertEqual(re.findall(r"\\[^nt\\\"']", source(name)), [], name)
 
 
 if __name__ == "__main__":
