@@ -11,12 +11,20 @@ def are_names(names):
     return all([is_name(name) for name in names]) and len(set(names)) == len(names)
 
 
-def are_parts(parts):
-    return are_names([part[0] for part in parts]) and all([is_kind(part[1]) for part in parts])
+# A kind may stand in many pieces, and long texts take long to look at: so what
+# is_kind told of a text is kept in looked, a dict.
+def tells_kind(looked, text):
+    if text not in looked:
+        looked[text] = is_kind(text)
+    return looked[text]
 
 
-def is_told_kind(title, made):
-    if title in GIVEN_KINDS or not is_kind(title):
+def are_parts(looked, parts):
+    return are_names([part[0] for part in parts]) and all([tells_kind(looked, part[1]) for part in parts])
+
+
+def is_told_kind(looked, title, made):
+    if title in GIVEN_KINDS or not tells_kind(looked, title):
         return False
     return is_name(title) or not made
 
@@ -29,30 +37,30 @@ def may_be_field(made, due, sure):
     return not due
 
 
-def is_record(title, made, fields):
-    if not is_told_kind(title, made) or not are_parts(fields):
+def is_record(looked, title, made, fields):
+    if not is_told_kind(looked, title, made) or not are_parts(looked, fields):
         return False
     return all([may_be_field(made, field[2], field[3]) for field in fields])
 
 
-def is_choice(title, made, forms):
-    return is_told_kind(title, made) and are_parts(forms)
+def is_choice(looked, title, made, forms):
+    return is_told_kind(looked, title, made) and are_parts(looked, forms)
 
 
-def is_function(name, plain, places, back, faults):
-    if not is_name(name) or not is_kind(back):
+def is_function(looked, name, plain, places, back, faults):
+    if not is_name(name) or not tells_kind(looked, back):
         return False
     if plain < 0 or plain > len(places):
         return False
-    return are_parts(places) and are_names(faults)
+    return are_parts(looked, places) and are_names(faults)
 
 
-def is_piece(piece):
+def is_piece(looked, piece):
     if piece[0] == "record":
-        return is_record(piece[1], piece[2], piece[3])
+        return is_record(looked, piece[1], piece[2], piece[3])
     if piece[0] == "choice":
-        return is_choice(piece[1], piece[2], piece[4])
-    return is_function(piece[1], piece[2], piece[3], piece[4], piece[5])
+        return is_choice(looked, piece[1], piece[2], piece[4])
+    return is_function(looked, piece[1], piece[2], piece[3], piece[4], piece[5])
 
 
 # No two parts of a piece have one name, so the names alone settle their order.
@@ -74,9 +82,10 @@ class Face:
     def __init__(self, pieces):
         self.told_kinds = {}
         self.told_functions = {}
+        looked = {}
         for at, piece in enumerate(pieces):
             told = self.told_functions if piece[0] == "function" else self.told_kinds
-            if piece[1] in told or not is_piece(piece):
+            if piece[1] in told or not is_piece(looked, piece):
                 raise NoFace(at)
             told[piece[1]] = settled(piece)
 

@@ -1,28 +1,7 @@
 """Which clients a face lets by, the kinds of their things, and how calls are bound."""
 
 from facestead.errors import NoClient
-
-# Where in a row things stand by themselves, and where in tuples (name, thing).
-THINGS_AT = {"plus": (1,), "glue": (1,), "form": (3,), "get": (1,), "getor": (1, 3), "take": (1, 3), "sort": (1, 3)}
-NAMED_AT = {"call": (3, 4), "make": (2,), "sort": (2,)}
-
-
-def named_parts(row):
-    return [row[at] for at in NAMED_AT.get(row[0], ())]
-
-
-def used_things(row):
-    things = [row[at] for at in THINGS_AT.get(row[0], ())]
-    if row[0] == "call":
-        things.extend(row[2])
-    for part in named_parts(row):
-        things.extend([thing for name, thing in part])
-    # a sort may have no z
-    return [thing for thing in things if thing is not None]
-
-
-def names_of(part):
-    return [name for name, thing in part]
+from facestead.rows import named_parts, names_of, used_things
 
 
 def rise(names):
